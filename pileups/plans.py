@@ -3,7 +3,7 @@
 from pileups.errors import Duplicate, InvalidEvents, InvalidInteger, InvalidLimits, InvalidName, InvalidPlan
 from pileups.errors import InvalidText, InvalidTie, InvalidTies, MissingError, NoTie, PlanError, Ring, TooMany
 from pileups.errors import UnknownEvent, UnlikeEvents
-from pileups.words import is_count, is_integer, is_name, parse_integer, split_words
+from pileups.words import is_count, is_integer, is_name, parse_integer, split_words, written
 
 MOST_EVENTS = 8
 MOST_TIES = 60
@@ -125,8 +125,8 @@ class Plan:
 
     def __str__(self):
         parts = [" ".join(["events", *self.order])]
-        parts.extend([f"tie {earlier} {later} {lag}" for earlier, later, lag in self.rows])
-        parts.extend([f"limit {event} {self.caps[event]}" for event in self.order if event in self.caps])
+        parts.extend([f"tie {earlier} {later} {written(lag)}" for earlier, later, lag in self.rows])
+        parts.extend([f"limit {event} {written(self.caps[event])}" for event in self.order if event in self.caps])
         return "; ".join(parts)
 
     def __repr__(self):
@@ -158,9 +158,7 @@ class Plan:
 
     def both(self, other):
         """Return the plan whose moments are those of both plans."""
-        need_plan(other)
-        if other.order != self.order:
-            raise UnlikeEvents(other.events())
+        need_like(self.events(), other)
         ties = [*self.rows, *other.rows]
         need_room(len(ties))
         return Plan(self.order, ties, limits=lesser_limits(self.caps, other.caps))
@@ -170,6 +168,13 @@ def need_plan(plan):
     """Raise InvalidPlan for a value that is no plan."""
     if not isinstance(plan, Plan):
         raise InvalidPlan(plan)
+
+
+def need_like(events, plan):
+    """Raise what is wrong with a plan that must have these events, in this order."""
+    need_plan(plan)
+    if plan.events() != events:
+        raise UnlikeEvents(plan.events())
 
 
 def read_parts(text):

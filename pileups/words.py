@@ -4,6 +4,7 @@ LETTERS = "abcdefghijklmnopqrstuvwxyz"
 DIGITS = "0123456789"
 LONGEST_NAME = 8
 MOST_DIGITS = 30
+BILLION = 1000000000
 
 
 def is_integer(value):
@@ -44,6 +45,19 @@ def parse_integer(text, *, low=None, high=None):
     if high is not None and number > high:
         return None
     return number
+
+
+def written(number):
+    """Return an integer in decimal notation, however long it is: str() refuses those of some thousand digits."""
+    if number < 0:
+        return f"-{written(-number)}"
+    rest = number
+    parts = []
+    while rest >= BILLION:
+        rest, part = divmod(rest, BILLION)
+        parts.append(f"{part:09d}")
+    parts.append(str(rest))
+    return "".join(list(reversed(parts)))
 
 
 def split_words(text):

@@ -3,7 +3,7 @@
 import inspect
 import unittest
 
-from pileups import moments, plans, words
+from pileups import flows, likeness, moments, plans, stocks, tables, words
 
 FUNCTIONS = {
     words: {
@@ -16,13 +16,44 @@ FUNCTIONS = {
         "come": "(plan, counts)", "came": "(plan, counts)", "behind": "(plan, run, *, begin=None)",
         "run_to": "(plan, counts, *, begin=None)", "higher": "(plan, one, other)", "lower": "(plan, one, other)",
     },
+    likeness: {
+        "within": "(one, other)", "alike": "(one, other)", "needless": "(plan)", "fewest": "(plan)",
+        "seen": "(plan, names)", "spanned": "(one, other)",
+    },
+    stocks: {
+        "read_stock": "(text)", "level": "(plan, stock, counts)", "levels": "(plan, stock, run)",
+        "greatest": "(plan, stock)", "least": "(plan, stock)",
+    },
+    flows: {
+        "flow": "(plan, stock)", "is_flow": "(plan, stock, bound, value)", "is_pump": "(plan, stock, value)",
+        "pumps": "(plan)",
+    },
 }
 
-PLAN_METHODS = {
-    "__init__": "(self, events, ties=(), *, limits=None)", "events": "(self)", "ties": "(self)",
-    "limits": "(self)", "limit": "(self, event)", "tied": "(self, earlier, later, lag)",
-    "untied": "(self, index)", "limited": "(self, event, limit)", "both": "(self, other)",
+METHODS = {
+    plans.Plan: {
+        "__init__": "(self, events, ties=(), *, limits=None)", "events": "(self)", "ties": "(self)",
+        "limits": "(self)", "limit": "(self, event)", "tied": "(self, earlier, later, lag)",
+        "untied": "(self, index)", "limited": "(self, event, limit)", "both": "(self, other)",
+    },
+    tables.Table: {
+        "__init__": "(self, plan)", "lead": "(self, earlier, later)", "most": "(self, event)",
+        "chain": "(self, earlier, later)", "held": "(self, event)", "least": "(self, event, count)",
+        "shown": "(self, earlier, later)",
+    },
+    stocks.Stock: {
+        "__init__": "(self, start=0, amounts=None)", "amounts": "(self)", "amount": "(self, event)",
+        "need_fit": "(self, plan)",
+    },
 }
+
+SPECIAL = {
+    plans.Plan: ["__len__", "__contains__", "__eq__", "__str__"],
+    tables.Table: ["__eq__"],
+    stocks.Stock: ["__eq__", "__add__", "__sub__", "__neg__", "__str__"],
+}
+
+HOMES = {plans.Plan: "pileups.plans", tables.Table: "pileups.tables", stocks.Stock: "pileups.stocks"}
 
 
 class TestInterface(unittest.TestCase):
@@ -34,11 +65,15 @@ class TestInterface(unittest.TestCase):
                 self.assertEqual(function.__module__, module.__name__)
 
     def test_methods_stand_in_the_class_itself(self):
-        self.assertEqual(plans.Plan.__module__, "pileups.plans")
-        for name, signature in PLAN_METHODS.items():
-            self.assertEqual(str(inspect.signature(vars(plans.Plan)[name])), signature)
-        for name in ["__len__", "__contains__", "__eq__", "__str__"]:
-            self.assertIn(name, vars(plans.Plan))
+        for owner, signatures in METHODS.items():
+            self.assertEqual(owner.__module__, HOMES[owner])
+            for name, signature in signatures.items():
+                self.assertEqual(str(inspect.signature(vars(owner)[name])), signature)
+            for name in SPECIAL[owner]:
+                self.assertIn(name, vars(owner))
+
+    def test_properties_stand_in_the_class_itself(self):
+        self.assertIsInstance(vars(stocks.Stock)["start"], property)
 
 
 if __name__ == "__main__":

@@ -3,6 +3,7 @@
 import itertools
 import unittest
 
+from by_hand import all_counts, keeps, small_plans
 from odd_values import no_counts, odd_integers, odd_texts, odd_values
 from pileups.errors import Barred, InvalidCounts, InvalidPlan, InvalidRun, NotBehind, NotMoment, TooLong
 from pileups.moments import barred, behind, came, come, higher, is_counts, is_moment, lower, run_to
@@ -17,28 +18,6 @@ def example():
 
 def told(plan, do, check):
     return {"plan": plan, "do": do, "check": check}
-
-
-def small_plans():
-    """Return plans of up to three events, with self-ties, double ties, limits and none."""
-    return [
-        Plan(["a"]), Plan(["a"], limits={"a": 0}), Plan(["a"], [("a", "a", 1)], limits={"a": 2}),
-        Plan(["b", "a"], [("a", "b", 1)]), Plan(["a", "b"], [("a", "b", 0), ("b", "a", 1)]),
-        Plan(["a", "b"], [("a", "b", 0), ("a", "b", 2)], limits={"a": 2, "b": 1}),
-        Plan(["a", "b", "c"], [("a", "b", 0), ("b", "c", 0), ("c", "a", 2)], limits={"b": 3}),
-        Plan(["c", "b", "a"], [("a", "c", 1), ("b", "c", 0), ("c", "b", 1)], limits={"a": 1}),
-    ]
-
-
-def all_counts(plan, most):
-    """Return all counts of a plan up to a number for each event."""
-    return [dict(zip(plan.events(), row)) for row in itertools.product(range(most + 1), repeat=len(plan))]
-
-
-def keeps(plan, counts):
-    """Return True if counts break nothing, told in the words of the definition."""
-    ties = [counts[later] - counts[earlier] <= lag for earlier, later, lag in plan.ties()]
-    return all(ties) and all(counts[event] <= limit for event, limit in plan.limits().items())
 
 
 def with_step(counts, event, step):

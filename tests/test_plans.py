@@ -396,6 +396,12 @@ class TestTexts(RaisingCase):
         for text in [f"events a; tie a a {most}9", f"events a; limit a {most}9"]:
             self.assert_keeps(InvalidText, "value", text, read_plan, text)
 
+    def test_numbers_that_are_too_long_for_str(self):
+        plan = Plan(["a"], [("a", "a", 10 ** 5000)], limits={"a": 10 ** 5000 + 7})
+        text = "events a; tie a a 1" + "0" * 5000 + "; limit a 1" + "0" * 4999 + "7"
+        self.assertEqual(str(plan), text)
+        self.assertIsInstance(repr(plan), str)
+
     def test_texts_that_are_nearly_right(self):
         wrong = [
             "", " ", ";", "; ", "events", "events ", "event a", "Events a", "a", "tie a a 1", "limit a 1",

@@ -3,7 +3,7 @@
 import unittest
 
 from odd_values import no_counts, no_integers, no_names, odd_integers, odd_values
-from pileups.words import is_count, is_integer, is_name, parse_integer, split_words
+from pileups.words import is_count, is_integer, is_name, parse_integer, split_words, written
 
 
 class TestKinds(unittest.TestCase):
@@ -88,6 +88,18 @@ class TestParseInteger(unittest.TestCase):
     def test_bounds_are_passed_by_name(self):
         with self.assertRaises(TypeError):
             parse_integer("5", 1)
+
+
+class TestWritten(unittest.TestCase):
+    def test_short_integers(self):
+        numbers = [0, 1, -1, 10, -10, 999999999, 10 ** 9, -(10 ** 9), 10 ** 9 + 1, 10 ** 18, 10 ** 18 + 10 ** 9]
+        for number in numbers + odd_integers() + list(range(-1200, 1200)):
+            self.assertEqual(written(number), str(number))
+
+    def test_integers_that_str_refuses(self):
+        self.assertEqual(written(10 ** 5000), "1" + "0" * 5000)
+        self.assertEqual(written(-(10 ** 5000 - 1)), "-" + "9" * 5000)
+        self.assertEqual(written(12 * 10 ** 4999 + 345), "12" + "0" * 4996 + "345")
 
 
 class TestSplitWords(unittest.TestCase):
