@@ -57,7 +57,7 @@ def written(number):
         rest, part = divmod(rest, BILLION)
         parts.append(f"{part:09d}")
     parts.append(str(rest))
-    return "".join(list(reversed(parts)))
+    return "".join(parts[::-1])
 
 
 def split_words(text):
