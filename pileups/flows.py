@@ -1,22 +1,24 @@
 """Flows, which show that a level is never exceeded, and pumps, which raise a level again and again."""
 
 from pileups.carrying import carried
+from pileups.closing import close, closed_sums, placed_rows, places_of, rows_between
+from pileups.plans import need_plan
 from pileups.repeats import can_repeat, repeats
-from pileups.stocks import gain, greatest, need_fitting
-from pileups.tables import Table
+from pileups.stocks import gain, need_fitting
 from pileups.words import is_count, is_integer
 
 
 def flow(plan, stock):
     """Return a flow whose bound is the greatest level of a stock, or None if there is none."""
-    if greatest(plan, stock)[0] is None:
+    need_fitting(plan, stock)
+    sums, ways = close(places_of(plan), placed_rows(plan))
+    moved = carried(sums, stock.amounts())
+    if moved is None:
         return None
     ties = [0 for tie in plan.ties()]
     limits = {event: 0 for event in plan.limits()}
-    table = Table(plan)
-    moved = carried(table, stock)
     for first, last in moved:
-        for kind, which in table.rows_to(first, last):
+        for kind, which in rows_between(ways, first, last):
             if kind == "tie":
                 ties[which] += moved[first, last]
             elif kind == "limit":
@@ -79,4 +81,5 @@ def is_pump(plan, stock, value):
 
 def pumps(plan):
     """Return the lists of one or more events that can come again and again."""
-    return repeats(plan)
+    need_plan(plan)
+    return repeats(closed_sums(plan))

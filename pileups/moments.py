@@ -1,7 +1,7 @@
 """Moments of a plan, and the runs that lead to them."""
 
 from pileups.errors import Barred, InvalidCounts, InvalidRun, NotBehind, NotMoment, TooLong
-from pileups.plans import need_plan
+from pileups.plans import Plan, need_plan
 from pileups.words import is_count
 
 LONGEST_RUN = 200
@@ -79,41 +79,71 @@ def need_run(plan, run):
         raise InvalidRun(run)
 
 
+def waits(plan):
+    """Return what each event of a plan waits for: earlier events, each with the lag."""
+    awaited = {event: [] for event in plan.events()}
+    for earlier, later, lag in plan.ties():
+        awaited[later].append((earlier, lag))
+    return awaited
+
+
+def is_ready(awaited, counts, event):
+    """Return True if no tie bars that an event comes next at a moment."""
+    return all([counts[event] < counts[earlier] + lag for earlier, lag in awaited[event]])
+
+
 def behind(plan, run, *, begin=None):
     """Return the counts behind a run that begins at a moment."""
     need_plan(plan)
     need_run(plan, run)
     counts = beginning(plan, begin)
+    awaited = waits(plan)
+    limits = plan.limits()
     for index, event in enumerate(run):
-        counts = stepped(counts, event, 1)
-        if not is_moment(plan, counts):
+        if not is_ready(awaited, counts, event) or counts[event] == limits.get(event):
             raise Barred(index)
+        counts[event] += 1
     return counts
 
 
-def next_towards(plan, counts, goal):
+def next_towards(awaited, counts, goal):
     """Return the first event that can come next on a way from a moment to a later one."""
     # One of them always can: else each waits for another one of them, on a ring of ties with the lag 0.
-    wanted = [event for event in plan.events() if counts[event] < goal[event]]
-    able = [event for event in wanted if is_moment(plan, stepped(counts, event, 1))]
+    wanted = [event for event in awaited if counts[event] < goal[event]]
+    able = [event for event in wanted if is_ready(awaited, counts, event)]
     return able[0]
+
+
+def way_between(plan, begin, goal):
+    """Return a run that leads from one moment to a later one."""
+    awaited = waits(plan)
+    counts = dict(begin)
+    run = []
+    for step in range(sum([goal[event] - begin[event] for event in awaited])):
+        event = next_towards(awaited, counts, goal)
+        counts[event] += 1
+        run.append(event)
+    return run
 
 
 def run_to(plan, counts, *, begin=None):
     """Return a run that leads from one moment to another."""
     need_moment(plan, counts)
-    current = beginning(plan, begin)
-    if any([current[event] > counts[event] for event in plan.events()]):
+    first = beginning(plan, begin)
+    if any([first[event] > counts[event] for event in plan.events()]):
         raise NotBehind(begin)
-    total = sum([counts[event] - current[event] for event in plan.events()])
+    total = sum([counts[event] - first[event] for event in plan.events()])
     if total > LONGEST_RUN:
         raise TooLong(total)
-    run = []
-    while len(run) < total:
-        event = next_towards(plan, current, counts)
-        current = stepped(current, event, 1)
-        run.append(event)
-    return run
+    return way_between(plan, first, counts)
+
+
+def plan_behind(plan, counts):
+    """Return the plan whose runs are exactly the rows of events that can follow behind a moment."""
+    # The lags on a ring add up to the same as before, so no ring comes about that has the lag 0 throughout.
+    ties = [(earlier, later, lag + counts[earlier] - counts[later]) for earlier, later, lag in plan.ties()]
+    limits = plan.limits()
+    return Plan(plan.events(), ties, limits={event: limits[event] - counts[event] for event in limits})
 
 
 def need_two_counts(plan, one, other):

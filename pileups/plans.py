@@ -1,8 +1,8 @@
 """Plans: events that come again and again, the ties by which they wait, and their limits."""
 
-from pileups.errors import Duplicate, InvalidEvents, InvalidInteger, InvalidLimits, InvalidName, InvalidPlan
-from pileups.errors import InvalidText, InvalidTie, InvalidTies, MissingError, NoTie, PlanError, Ring, TooMany
-from pileups.errors import UnknownEvent, UnlikeEvents
+from pileups.errors import Duplicate, InvalidEvents, InvalidInteger, InvalidLimits, InvalidName, InvalidNames
+from pileups.errors import InvalidPlan, InvalidText, InvalidTie, InvalidTies, MissingError, NoTie, PlanError, Ring
+from pileups.errors import TooMany, UnknownEvent, UnlikeEvents
 from pileups.words import is_count, is_integer, is_name, parse_integer, split_words, written
 
 MOST_EVENTS = 8
@@ -67,10 +67,11 @@ def ringed(events, ties):
     reached = {(earlier, later): True for earlier, later, lag in ties if lag == 0}
     # The event in the middle stands in the outermost loop: only so one pass finds all that is reached.
     for middle in events:
-        for first in events:
-            for last in events:
-                if (first, middle) in reached and (middle, last) in reached:
-                    reached[first, last] = True
+        before = [first for first in events if (first, middle) in reached]
+        beyond = [last for last in events if (middle, last) in reached]
+        for first in before:
+            for last in beyond:
+                reached[first, last] = True
     return [event for event in events if (event, event) in reached]
 
 
@@ -175,6 +176,21 @@ def need_like(events, plan):
     need_plan(plan)
     if plan.events() != events:
         raise UnlikeEvents(plan.events())
+
+
+def need_different(plan, names):
+    """Raise what is wrong with the items of a list of different events of a plan."""
+    for index, name in enumerate(names):
+        need_event(plan.events(), name)
+        if name in names[:index]:
+            raise Duplicate(name)
+
+
+def need_names(plan, names):
+    """Raise what is wrong with a list of one or more different events of a plan."""
+    if not isinstance(names, (list, tuple)) or not names:
+        raise InvalidNames(names)
+    need_different(plan, names)
 
 
 def read_parts(text):

@@ -1,11 +1,11 @@
 """Stocks: levels that change whenever an event comes, and the greatest and the least ones of all moments."""
 
-from pileups.carrying import peak
+from pileups.carrying import carried, peak
+from pileups.closing import closed_sums
 from pileups.errors import InvalidAmounts, InvalidInteger, InvalidStock, InvalidText, PlanError
 from pileups.moments import behind, need_counts
 from pileups.plans import need_event, need_plan
-from pileups.repeats import repeats
-from pileups.tables import Table
+from pileups.repeats import pump
 from pileups.words import is_integer, is_name, parse_integer, split_words, written
 
 
@@ -142,18 +142,23 @@ def gain(stock, events):
     return sum([stock.amount(event) for event in events])
 
 
+def extreme(sums, stock):
+    """Return what greatest does for a stock of the events of a plan with these closed sums."""
+    moved = carried(sums, stock.amounts())
+    if moved is None:
+        return (None, pump(sums, stock.amounts()))
+    counts = peak(sums, moved)
+    return (level_at(stock, counts), counts)
+
+
 def greatest(plan, stock):
     """Return the greatest level and a moment that has it, or None and events that raise the level for ever."""
     need_fitting(plan, stock)
-    raising = [events for events in repeats(plan) if gain(stock, events) > 0]
-    if raising:
-        return (None, raising[0])
-    counts = peak(Table(plan), stock)
-    return (level_at(stock, counts), counts)
+    return extreme(closed_sums(plan), stock)
 
 
 def least(plan, stock):
     """Return the least level and a moment that has it, or None and events that lower the level for ever."""
     need_fitting(plan, stock)
-    highest, shown = greatest(plan, -stock)
+    highest, shown = extreme(closed_sums(plan), -stock)
     return (None if highest is None else -highest, shown)
