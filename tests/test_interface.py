@@ -3,7 +3,7 @@
 import inspect
 import unittest
 
-from pileups import flows, likeness, moments, plans, stocks, tables, words
+from pileups import endless, flows, likeness, logs, moments, plans, safety, sightings, stocks, tables, words
 
 FUNCTIONS = {
     words: {
@@ -28,6 +28,21 @@ FUNCTIONS = {
         "flow": "(plan, stock)", "is_flow": "(plan, stock, bound, value)", "is_pump": "(plan, stock, value)",
         "pumps": "(plan)",
     },
+    safety: {
+        "safe": "(plan, bounds)", "least_start": "(plan, stock, low)", "greatest_lag": "(plan, index, bounds)",
+        "further": "(plan, bounds, ties)",
+    },
+    sightings: {
+        "is_sure": "(plan, earlier, k, later, j)", "otherwise": "(plan, earlier, k, later, j)",
+    },
+    logs: {
+        "misfit": "(plan, names, log)", "coming": "(plan, names, log)", "filled": "(plan, names, log)",
+        "future": "(plan, names, log)", "parting": "(plan, names, one, other)",
+    },
+    endless: {
+        "endless": "(plan)", "groups": "(plan)", "closed": "(plan, events)", "is_bounded": "(plan, stock)",
+        "sums": "(plan, stock)",
+    },
 }
 
 METHODS = {
@@ -45,15 +60,24 @@ METHODS = {
         "__init__": "(self, start=0, amounts=None)", "amounts": "(self)", "amount": "(self, event)",
         "need_fit": "(self, plan)",
     },
+    sightings.Sighting: {
+        "__init__": "(self, plan, *, low=None, high=None)", "is_possible": "(self)", "least": "(self, event)",
+        "greatest": "(self, event)", "lead": "(self, earlier, later)", "least_counts": "(self)",
+        "greatest_counts": "(self)", "narrowed": "(self, event, *, low=None, high=None)",
+    },
 }
 
 SPECIAL = {
     plans.Plan: ["__len__", "__contains__", "__eq__", "__str__"],
     tables.Table: ["__eq__"],
     stocks.Stock: ["__eq__", "__add__", "__sub__", "__neg__", "__str__"],
+    sightings.Sighting: [],
 }
 
-HOMES = {plans.Plan: "pileups.plans", tables.Table: "pileups.tables", stocks.Stock: "pileups.stocks"}
+HOMES = {
+    plans.Plan: "pileups.plans", tables.Table: "pileups.tables", stocks.Stock: "pileups.stocks",
+    sightings.Sighting: "pileups.sightings",
+}
 
 
 class TestInterface(unittest.TestCase):
