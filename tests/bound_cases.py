@@ -1,4 +1,4 @@
-"""What all functions with bounds of levels must refuse, and how levels are out of them in the words of the definition."""
+"""What all functions with bounds of levels must refuse, and what the definition says of levels out of them."""
 
 from by_hand import level_of
 from odd_values import no_integers, no_names, odd_integers, odd_texts, odd_values
@@ -35,7 +35,8 @@ def no_bound():
     """Return values that are no bound."""
     stock = Stock(1)
     wrong = odd_values() + odd_integers() + odd_texts()
-    wrong.extend([[stock, 0, 1], (stock, 0), (stock, 0, 1, 2), (stock,), (0, stock, 1), ("0", 0, 1), (None, 0, 1), stock])
+    wrong.extend([[stock, 0, 1], (stock, 0), (stock, 0, 1, 2), (stock,), (0, stock, 1), ("0", 0, 1), (None, 0, 1),
+                  stock])
     wrong.extend([(stock, value, 1) for value in no_integers() if value is not None])
     wrong.extend([(stock, 1, value) for value in no_integers() if value is not None])
     return wrong

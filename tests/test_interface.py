@@ -3,7 +3,8 @@
 import inspect
 import unittest
 
-from pileups import endless, flows, likeness, logs, moments, plans, safety, sightings, stocks, tables, words
+from pileups import desk, endless, flows, guards, learnt, likeness, logs, moments, plans, safety, sightings, stocks
+from pileups import tables, together, words
 
 FUNCTIONS = {
     words: {
@@ -43,6 +44,12 @@ FUNCTIONS = {
         "endless": "(plan)", "groups": "(plan)", "closed": "(plan, events)", "is_bounded": "(plan, stock)",
         "sums": "(plan, stock)",
     },
+    learnt: {"learnt": "(events, logs)", "is_told": "(plan, logs)", "teaching": "(plan)"},
+    guards: {
+        "remaining": "(plan, counts)", "outburst": "(plan, bounds, ours, counts)",
+        "may_come": "(plan, bounds, ours, counts)", "unguarded": "(plan, bounds, ours, run)",
+    },
+    together: {"composed": "(one, other)", "held_back": "(one, other)", "renaming": "(one, other)"},
 }
 
 METHODS = {
@@ -65,6 +72,11 @@ METHODS = {
         "greatest": "(self, event)", "lead": "(self, earlier, later)", "least_counts": "(self)",
         "greatest_counts": "(self)", "narrowed": "(self, event, *, low=None, high=None)",
     },
+    desk.Desk: {
+        "__init__": "(self)", "names": "(self)", "plan": "(self)", "counts": "(self)", "put": "(self, name, entry)",
+        "drop": "(self, name)", "begin": "(self, name)", "do": "(self, events)", "undo": "(self)", "redo": "(self)",
+        "copied": "(self)", "run": "(self, line)", "run_all": "(self, lines)",
+    },
 }
 
 SPECIAL = {
@@ -72,11 +84,12 @@ SPECIAL = {
     tables.Table: ["__eq__"],
     stocks.Stock: ["__eq__", "__add__", "__sub__", "__neg__", "__str__"],
     sightings.Sighting: [],
+    desk.Desk: ["__getitem__", "__len__", "__contains__", "__eq__"],
 }
 
 HOMES = {
     plans.Plan: "pileups.plans", tables.Table: "pileups.tables", stocks.Stock: "pileups.stocks",
-    sightings.Sighting: "pileups.sightings",
+    sightings.Sighting: "pileups.sightings", desk.Desk: "pileups.desk",
 }
 
 

@@ -246,8 +246,8 @@ class TestWrongArguments(RaisingCase):
             self.assert_keeps(Duplicate, "name", again, call, example(), ["plan", "do", again, "x"], 7)
 
     def test_wrong_logs(self):
-        wrong = odd_integers() + odd_texts() + [None, True, False, {}, {"plan": 1}, "plan", "a", example(), ["do"], ["x"],
-                                                ["plan", "check", "do"], ["plan", None], [["plan"]], [{}], (example(),)]
+        wrong = [None, True, False, {}, {"plan": 1}, "plan", "a", example(), ["do"], ["x"], ["plan", "check", "do"],
+                 ["plan", None], [["plan"]], [{}], (example(),), *odd_integers(), *odd_texts()]
         for call in self.calls:
             for value in wrong:
                 self.assert_keeps(InvalidLog, "value", value, call, example(), SEEN, value)

@@ -204,7 +204,7 @@ class TestGreatestLag(RaisingCase):
         self.assertGreater(min(found.count(kind) for kind in ["not safe", "any", "some"]), 5, found)
 
     def assert_borders(self, plan, index, short, bounds):
-        """The greatest lag is safe, and the next one is not; or none is, told by the plan with the least lag; or any is."""
+        """The greatest lag is safe, and the next one is not; or any is; or none is, told by the least one."""
         if safe(short, bounds) is not None:
             self.assert_raises(NotSafe, "index", index, greatest_lag, plan, index, bounds)
             return "not safe"
@@ -225,7 +225,8 @@ class TestGreatestLag(RaisingCase):
         slopes = [greatest(with_lag(plan, 0, lag + 1), stock)[0] - greatest(with_lag(plan, 0, lag), stock)[0]
                   for lag in [0, 10, 10 ** 9, GREAT + 10 ** 9]]
         self.assertEqual(slopes, [11, 8, 5, 0])
-        for level in [low, low + 10, low + 11, low + 110, low + 117, low + 118, low + 10 ** 9, low + 10 ** 11, high - 1]:
+        for level in [low, low + 10, low + 11, low + 110, low + 117, low + 118, low + 10 ** 9, low + 10 ** 11,
+                      high - 1]:
             self.assertEqual(self.assert_borders(plan, 0, short, [(stock, None, level)]), "some")
         self.assertEqual(self.assert_borders(plan, 0, short, [(stock, None, low - 1)]), "not safe")
         self.assertEqual(self.assert_borders(plan, 0, short, [(stock, None, high)]), "any")
@@ -349,7 +350,8 @@ class TestFurther(RaisingCase):
         full = Plan(["a", "b"], [("a", "b", 1)] * 58)
         self.assertEqual(further(full, [], [("a", "b", 1)] * 2), [])
         self.assert_raises(TooMany, "bound", 60, further, full, [], [("a", "b", 1), ("b", "a", 0), ("a", "a", 0)])
-        self.assert_raises(InvalidInteger, "value", -1, further, full, [], [("a", "b", 1), ("b", "a", 0), ("a", "a", -1)])
+        self.assert_raises(InvalidInteger, "value", -1, further, full, [],
+                           [("a", "b", 1), ("b", "a", 0), ("a", "a", -1)])
 
 
 if __name__ == "__main__":
