@@ -93,6 +93,7 @@ def cost(sums, moved):
 def peak(sums, moved):
     """Return the least moment with the greatest level, if so much is carried on each way."""
     counts = {place: 0 for place in sums}
+    takers = [pair[1] for pair in moved]
     changed = True
     while changed:
         changed = False
@@ -103,6 +104,6 @@ def peak(sums, moved):
                 changed = True
         for place in sums:
             known = sums[place]
-            counts[place] = max([counts[place], *[counts[taker] - known[taker] for giver, taker in moved
-                                                  if taker in known]])
+            waits = [counts[taker] - known[taker] for taker in takers if taker in known]
+            counts[place] = max([counts[place], *waits])
     return {place: counts[place] for place in counts if place != NOTHING}

@@ -9,7 +9,6 @@ from pileups.stocks import Stock, level_at
 
 def remaining(plan, counts):
     """Return the plan whose runs are exactly the rows of events that can follow behind a moment."""
-    need_plan(plan)
     need_moment(plan, counts)
     return plan_behind(plan, counts)
 

@@ -200,6 +200,35 @@ class TestRenaming(RaisingCase):
         ringed = crossed[:6] + [("g", "h", 3), ("h", "e", 3)]
         self.assertIs(renaming(Plan(events, ringed), Plan(events, crossed)), None)
 
+    def test_like_events_in_unlike_plans(self):
+        events = list("abcdefgh")
+        cube = [(place, place ^ bit) for place in range(8) for bit in [1, 2, 4]]
+        band = [(place, (place + step) & 7) for place in range(8) for step in [1, 4, 7]]
+
+        def plan_of(pairs, names):
+            return Plan(names, [(names[one], names[other], 5 if (one, other) in pairs else 6)
+                                for one, other in itertools.permutations(range(8), 2)])
+
+        # Each event leads three others by 5 and four by 6 in both plans, but the three are not alike.
+        self.assertIs(renaming(plan_of(cube, events), plan_of(band, events)), None)
+        ring = [(place, (place + 1) & 7) for place in range(8)]
+        rings = [(place, (place & 4) + ((place + 1) & 3)) for place in range(8)]
+        self.assertIs(renaming(plan_of(ring, events), plan_of(rings, events)), None)
+        for pairs in [cube, band, ring, rings]:
+            one, other = plan_of(pairs, events), plan_of(pairs, list("gdbhacfe"))
+            found = renaming(one, other)
+            table, told = Table(one), Table(other)
+            for earlier, later in itertools.permutations(events, 2):
+                self.assertEqual(told.lead(found[earlier], found[later]), table.lead(earlier, later))
+
+    def test_leads_of_one_direction(self):
+        ring = Plan(["a", "b", "c"], [("a", "b", 1), ("b", "c", 1), ("c", "a", 1)])
+        other = Plan(["a", "b", "c"], [("a", "c", 1), ("c", "b", 1), ("b", "a", 1)])
+        found = renaming(ring, other)
+        self.assertEqual([Table(other).lead(found[earlier], found[later]) for earlier, later in ["ab", "bc", "ca"]],
+                         [1, 1, 1])
+        self.assertIs(renaming(Plan(["a", "b"], limits={"a": 1}), Plan(["a", "b"])), None)
+
     def test_numbers_of_events(self):
         self.assertIs(renaming(Plan(["a"]), Plan(["a", "b"])), None)
         self.assertIs(renaming(Plan(["a", "b"]), Plan(["a"])), None)
