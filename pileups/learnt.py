@@ -24,10 +24,11 @@ def need_logs(events, logs):
 
 def widen(known, log):
     """Let a run happen: make the greatest leads as great as they are along it."""
-    counts = {place: 0 for place in known}
+    places = list(known)
+    counts = {place: 0 for place in places}
     for event in log:
         counts[event] += 1
-        for place in known:
+        for place in places:
             lead = counts[event] - counts[place]
             if lead > known[place][event]:
                 known[place][event] = lead
